@@ -1,0 +1,1 @@
+"""What recursive rules lead to, compared for all lots of facts."""
