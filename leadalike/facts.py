@@ -9,12 +9,12 @@ MOST_FACTS = 5400
 
 def is_in_range(value, least, most):
     """Return whether value is an integer from least to most; True and False are none."""
-    return type(value) is int and least <= value <= most
+    return isinstance(value, int) and not isinstance(value, bool) and least <= value <= most
 
 
 def is_tuple(value, least, most):
     """Return whether value is a tuple of least to most parts."""
-    return type(value) is tuple and least <= len(value) <= most
+    return isinstance(value, tuple) and least <= len(value) <= most
 
 
 def is_of_kind(kinds, value, least, most):
