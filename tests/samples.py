@@ -25,13 +25,13 @@ STRAYS = (
 )
 
 
-def answer_leaving_arguments(test, call, *arguments):
+def answer_leaving_arguments(test, call, *arguments, **named):
     """Call, check that the arguments are as before, and return the answer or the error."""
     # repr tells True from 1 and a list from a tuple, where == may not.
     before = repr(arguments)
     passed = copy.deepcopy(arguments)
     try:
-        answer = call(*passed)
+        answer = call(*passed, **named)
     except (ValueError, LookupError, RuntimeError, OverflowError) as error:
         answer = error
     test.assertEqual(repr(passed), before)
