@@ -42,6 +42,11 @@ def is_fact(kinds, value):
     return is_of_kind(kinds, value, LEAST_THING, MOST_THING)
 
 
+def are_facts(kinds, value, most):
+    """Return whether value is a set of at most so many facts of these kinds."""
+    return is_tuple(value, 0, most) and first_wrong(value, lambda part: is_fact(kinds, part)) is None
+
+
 def require_facts(kinds, value):
     """Return value if it is a set of facts of these kinds, else raise InvalidFacts."""
     if not is_tuple(value, 0, MOST_FACTS):

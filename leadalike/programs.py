@@ -77,6 +77,15 @@ def require_program(value):
     return value
 
 
+def is_program(value):
+    """Return whether value is a program."""
+    try:
+        require_program(value)
+    except InvalidProgram:
+        return False
+    return True
+
+
 def variables_of(rule):
     """Return the variables of the rule's body, from -1 on downwards."""
     terms = terms_of_atoms(rule[1])

@@ -7,12 +7,19 @@ from leadalike.spreading import ALL_ROUNDS, plans_of, spread
 
 def reason_for(program, facts, fact):
     """Return a reason without needless entries for the fact, or None if there is no reason."""
-    state = spread(plans_of(program), facts, ALL_ROUNDS, fact)
-    if fact not in state.ranks:
-        return None
-    needed = facts_behind(program, state.entries, fact)
-    # The entries are in the order of the rounds, so each one comes behind those of its body.
-    return tuple([state.entries[head] for head in state.entries if head in needed])
+    return reason_by(program, plans_of(program), facts, fact)
+
+
+def reason_by(program, plans, facts, fact):
+    """Return a reason without needless entries for the fact by the program's plans, or None if there is no reason."""
+    state = spread(plans, facts, ALL_ROUNDS, fact)
+    return reason_from(program, state.entries, fact) if fact in state.ranks else None
+
+
+def reason_from(program, entries, fact):
+    """Return the reason for the fact that a dict of heads and entries has, each entry behind those of its body."""
+    needed = facts_behind(program, entries, fact)
+    return tuple([entries[head] for head in entries if head in needed])
 
 
 def facts_behind(program, entries, fact):
@@ -31,29 +38,41 @@ def facts_behind(program, entries, fact):
     return needed
 
 
+def tidied(program, facts, fact, entries):
+    """Return the reason without needless entries and without those whose head is there already."""
+    given = {each: True for each in facts}
+    led = {}
+    for index, values in entries:
+        head = head_with(program[1][index], values)
+        if head not in given and head not in led:
+            led[head] = (index, values)
+    return reason_from(program, led, fact)
+
+
 def is_reason(program, facts, fact, entries):
     """Return whether the entries, whatever they are, are a reason for the fact from the facts."""
-    if not is_tuple(entries, 0, MOST_FACTS):
-        return False
-    if not entries:
-        return fact in facts
+    return has_reason_form(program, entries) and reason_fault(program, facts, fact, entries) is None
+
+
+def has_reason_form(program, value):
+    """Return whether value is a tuple of entries, be they of use or not."""
+    return is_tuple(value, 0, MOST_FACTS) and all([has_entry_form(program, entry) for entry in value])
+
+
+def has_entry_form(program, value):
+    """Return whether value is a pair of the index of a rule and values for it."""
+    return is_tuple(value, 2, 2) and fit(program, value[0], value[1])
+
+
+def reason_fault(program, facts, fact, entries):
+    """Return the first fault of the entries as a reason for the fact from the facts, or None."""
     there = {given: True for given in facts}
-    head = None
-    for entry in entries:
-        if not is_entry(program, entry):
-            return False
-        index, values = entry
+    # Without entries the fact itself has to be given.
+    head = fact if fact in there else None
+    for at, (index, values) in enumerate(entries):
         rule = program[1][index]
-        if not all([part in there for part in body_with(rule, values)]):
-            return False
+        if not is_unlike(rule, values) or not all([part in there for part in body_with(rule, values)]):
+            return ("entry", at)
         head = head_with(rule, values)
         there[head] = True
-    return head == fact
-
-
-def is_entry(program, value):
-    """Return whether value is a pair of the index of a rule and values for it, whose pairs are unlike."""
-    if not is_tuple(value, 2, 2):
-        return False
-    index, values = value
-    return fit(program, index, values) and is_unlike(program[1][index], values)
+    return None if head == fact else ("misses",)

@@ -40,31 +40,45 @@ def depth_of(tree):
 
 def is_tree(program, value):
     """Return whether value, whatever it is, is a tree."""
+    return has_tree_form(program, value) and is_sound(program, value)
+
+
+def has_tree_form(program, value):
+    """Return whether value has rules, values for them and parts as a tree has, be it one or not."""
     # A list of what is to be looked at instead of recursion, as a value may be nested deeply.
-    waiting = [(value, None)]
+    waiting = [value]
     while waiting:
-        tree, fact = waiting.pop()
+        tree = waiting.pop()
         if not is_branching(program, tree):
             return False
-        index, values, parts = tree
-        rule = program[1][index]
-        if fact is not None and head_with(rule, values) != fact:
-            return False
-        for part, leaf in zip(parts, body_with(rule, values)):
-            if not is_tuple(part, 0, 0):
-                waiting.append((part, leaf))
+        waiting.extend([part for part in tree[2] if not is_tuple(part, 0, 0)])
     return True
 
 
 def is_branching(program, value):
-    """Return whether value is a rule, values for it whose pairs are unlike, and a part for each atom."""
+    """Return whether value is the index of a rule, values for it, and a part for each atom."""
     if not is_tuple(value, 3, 3):
         return False
     index, values, parts = value
-    if not fit(program, index, values) or not is_unlike(program[1][index], values):
+    if not fit(program, index, values):
         return False
     many = len(program[1][index][1])
     return is_tuple(parts, many, many)
+
+
+def is_sound(program, tree):
+    """Return whether in what has the form of a tree all pairs are unlike and each part's root is its atom's fact."""
+    waiting = [tree]
+    while waiting:
+        index, values, parts = waiting.pop()
+        rule = program[1][index]
+        if not is_unlike(rule, values):
+            return False
+        grown = [(part, fact) for part, fact in zip(parts, body_with(rule, values)) if part != ()]
+        if not all([root_of(program, part) == fact for part, fact in grown]):
+            return False
+        waiting.extend([part for part, _ in grown])
+    return True
 
 
 def bound_to(atom, fact):

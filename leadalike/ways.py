@@ -3,7 +3,7 @@
 from leadalike.errors import LimitExceeded
 from leadalike.facts import LEAST_THING, MOST_THING
 from leadalike.programs import variables_of
-from leadalike.putting import are_unlike, body_with
+from leadalike.putting import are_unlike, body_with, is_unlike
 
 
 def new_things(known):
@@ -63,3 +63,8 @@ def way_like(rule, values, known):
         if thing not in known and thing not in named:
             named[thing] = fresh[len(named)]
     return tuple([named.get(thing, thing) for thing in values])
+
+
+def is_way(rule, values, known):
+    """Return whether the values for the rule are a way of it."""
+    return is_unlike(rule, values) and way_like(rule, values, known) == values

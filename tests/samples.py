@@ -24,6 +24,19 @@ STRAYS = (
     ((), ()), ("ab", "ab"), ({}, []),
 )
 
+# No one of these is an index, a thing, a cost or a number of anything.
+WRONG_INTEGERS = (
+    -1, -2, -30, 10 ** 50, -10 ** 50, True, False, None, "", "1", (), (1,), [], [1], {}, {1: 1},
+    nested_in_tuples(30), nested_in_lists(30),
+)
+
+_BODY = ((0, (-1, -2)), (1, (-3,)))
+_RULES = (*(((0, head), _BODY, ()) for head in ((-1, -2), (-1, -3), (-2, -3), (-3, -3))),
+          ((2, ()), ((0, (-1, -2)), (0, (-3, -4))), ()))
+# Programs whose rules have 300 and 301 ways together, and so many plain trees of the depth 1.
+WITH_300_WAYS = ((2, 1, 0), tuple(sorted([*_RULES, ((0, (3, 8)), (), ())])))
+WITH_301_WAYS = ((2, 1, 0), tuple(sorted([*_RULES, ((0, (3, 8)), ((1, (-1,)),), ((-1, 3),))])))
+
 
 def answer_leaving_arguments(test, call, *arguments, **named):
     """Call, check that the arguments are as before, and return the answer or the error."""
