@@ -17,7 +17,10 @@ def plans_of(program):
 
 
 class Spread:
-    """Facts and what plans lead to from them; each fact has its rank, and, unless given, an entry that leads to it."""
+    """Facts and what plans lead to from them; each fact has its rank, and, unless given, an entry that leads to it.
+
+    The entries are in an order in which each one stands behind those of the facts of its body.
+    """
 
     def __init__(self, plans, facts):
         self.plans = plans
@@ -27,6 +30,19 @@ class Spread:
         self.fresh = list(facts)
         self.older = Shelf()
         self.whole = Shelf()
+
+    def give(self, fact):
+        """Give one more fact once all is settled; if it was reached before, it is no longer reached by an entry."""
+        if fact in self.ranks:
+            self.entries.pop(fact, None)
+        else:
+            self.ranks[fact] = self.rank
+            self.fresh = [fact]
+
+    def settle(self):
+        """Add the facts of all further rounds."""
+        while not self.is_settled():
+            self.go_on()
 
     def is_settled(self):
         """Return whether no further round adds a fact."""
