@@ -101,10 +101,11 @@ class Base:
         before = self._facts
         self._note(("tell", fact))
         self._given = tuple(sorted([*self._given, fact]))
-        # What holds goes on holding, so there is no need to begin anew.
+        # What holds goes on holding, so that there is no need to begin anew.
         self._has_gone_on = True
-        self._spread.give(fact)
-        self._settle()
+        if fact not in self:
+            self._spread.give(fact)
+            self._settle()
         return (added(before, self._facts), ())
 
     def forget(self, fact):

@@ -32,12 +32,9 @@ class Spread:
         self.whole = Shelf()
 
     def give(self, fact):
-        """Give one more fact once all is settled; if it was reached before, it is no longer reached by an entry."""
-        if fact in self.ranks:
-            self.entries.pop(fact, None)
-        else:
-            self.ranks[fact] = self.rank
-            self.fresh = [fact]
+        """Give one more fact, which has not been reached, once all is settled."""
+        self.ranks[fact] = self.rank
+        self.fresh = [fact]
 
     def settle(self):
         """Add the facts of all further rounds."""
