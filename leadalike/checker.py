@@ -3,7 +3,7 @@
 from leadalike.asking import asked_by, choices_up_to, claim_for, verdict_for
 from leadalike.claims import require_claim
 from leadalike.errors import InvalidClaim
-from leadalike.facts import is_tuple
+from leadalike.facts import first_missing, is_tuple
 from leadalike.forms import MOST_LOOKED_AT, has_form, mend_parts
 from leadalike.mends import cost_of, with_choice
 from leadalike.putting import head_with
@@ -41,15 +41,6 @@ def fault_of(claim, verdict, paper):
     if verdict == "shown":
         return ways_fault(claim, paper)
     return way_fault(asked_by(claim), paper if claim[0] == "within" else (0, *paper))
-
-
-def first_missing(needed, facts):
-    """Return the first of the needed facts that is not among the facts, or None."""
-    there = set(facts)
-    for fact in needed:
-        if fact not in there:
-            return fact
-    return None
 
 
 def facts_fault(program, given, fact, facts):

@@ -57,10 +57,15 @@ def require_facts(kinds, value):
     return value
 
 
-def are_among(facts, others):
-    """Return whether each of the facts is among the others."""
+def first_missing(facts, others):
+    """Return the first of the facts that is not among the others, or None."""
     known = set(others)
     for fact in facts:
         if fact not in known:
-            return False
-    return True
+            return fact
+    return None
+
+
+def are_among(facts, others):
+    """Return whether each of the facts is among the others."""
+    return first_missing(facts, others) is None

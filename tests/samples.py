@@ -1,6 +1,9 @@
 """Values that are of no use anywhere, and a check that a call leaves its arguments alone."""
 
 import copy
+import unittest
+
+from leadalike.errors import LimitExceeded
 
 
 def nested_in_tuples(depth):
@@ -49,3 +52,18 @@ def answer_leaving_arguments(test, call, *arguments, **named):
         answer = error
     test.assertEqual(repr(passed), before)
     return answer
+
+
+class Answers(unittest.TestCase):
+    """Checks of what a call returns, to which it is no matter what the call is."""
+
+    def assert_answer(self, expected, call, *arguments, **named):
+        with self.subTest(call=call.__name__, arguments=repr(arguments)[:300], **named):
+            answer = answer_leaving_arguments(self, call, *arguments, **named)
+            self.assertEqual(repr(answer), repr(expected))
+
+    def assert_exceeded(self, call, *arguments, **named):
+        with self.subTest(call=call.__name__, arguments=repr(arguments)[:300], **named):
+            error = answer_leaving_arguments(self, call, *arguments, **named)
+            self.assertIs(error.__class__, LimitExceeded)
+            self.assertEqual(error.limit, named.get("tries", 300))

@@ -8,7 +8,7 @@ from leadalike.trees import leaves_of, plain_trees
 from tests.plain_claims import plain_enough, plain_round
 from tests.plainly import plain_rounds
 from tests.randomly import draw_facts, draw_kinds, draw_program
-from tests.samples import WITH_300_WAYS, WITH_301_WAYS, answer_leaving_arguments
+from tests.samples import WITH_300_WAYS, WITH_301_WAYS, Answers
 
 ONE = ((1, (-1,)), ((0, (-1,)),), ())
 TWO = ((2, (-1,)), ((1, (-1,)),), ())
@@ -17,7 +17,7 @@ CHAIN = (1, 1, 1, 1)
 PATHS = ((2,), (((0, (-1, -3)), ((0, (-1, -2)), (0, (-2, -3))), ()),))
 
 
-class Enough(unittest.TestCase):
+class Enough(Answers):
     def assert_enough(self, answers, program, **named):
         """The answers for k from 0 on are told, None for too many trees; the least k that is enough follows."""
         require_program(program)
@@ -26,21 +26,11 @@ class Enough(unittest.TestCase):
                 self.assert_exceeded(is_enough, program, k, **named)
             else:
                 self.assert_answer(answer, is_enough, program, k, **named)
-        if None in answers[:answers.index(True)] if True in answers else None in answers:
+        least = answers.index(True) if True in answers else None
+        if None in answers[:least]:
             self.assert_exceeded(least_enough, program, **named)
         else:
-            least = answers.index(True) if True in answers else None
             self.assert_answer(least, least_enough, program, **named)
-
-    def assert_answer(self, expected, call, *arguments, **named):
-        with self.subTest(call=call.__name__, arguments=arguments, **named):
-            self.assertEqual(repr(answer_leaving_arguments(self, call, *arguments, **named)), repr(expected))
-
-    def assert_exceeded(self, call, *arguments, **named):
-        with self.subTest(call=call.__name__, arguments=arguments, **named):
-            error = answer_leaving_arguments(self, call, *arguments, **named)
-            self.assertIs(error.__class__, LimitExceeded)
-            self.assertEqual(error.limit, named.get("tries", 300))
 
 
 class Example(unittest.TestCase):

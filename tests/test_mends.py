@@ -7,7 +7,9 @@ from leadalike.mends import cheapest_mend, choices, keeps, require_options, requ
 from leadalike.programs import require_program
 from tests.plain_claims import plain_changed, plain_choices, plain_keeps, plain_mend
 from tests.randomly import draw_facts, draw_kinds, draw_options, draw_program, draw_wish
-from tests.samples import STRAYS, WITH_300_WAYS, WITH_301_WAYS, WRONG_INTEGERS, answer_leaving_arguments
+from tests.samples import (
+    STRAYS, WITH_300_WAYS, WITH_301_WAYS, WRONG_INTEGERS, Answers, answer_leaving_arguments,
+)
 
 # Kinds of 2, 1 and 0 things.
 KINDS = (2, 1, 0)
@@ -49,18 +51,7 @@ WRONG_OPTIONS = STRAYS + (
 )
 
 
-class Mends(unittest.TestCase):
-    def assert_answer(self, expected, call, *arguments, **named):
-        with self.subTest(call=call.__name__, arguments=repr(arguments)[:300], **named):
-            answer = answer_leaving_arguments(self, call, *arguments, **named)
-            self.assertEqual(repr(answer), repr(expected))
-
-    def assert_exceeded(self, call, *arguments, **named):
-        with self.subTest(call=call.__name__, arguments=arguments, **named):
-            error = answer_leaving_arguments(self, call, *arguments, **named)
-            self.assertIs(error.__class__, LimitExceeded)
-            self.assertEqual(error.limit, named.get("tries", 300))
-
+class Mends(Answers):
     def assert_raises(self, kind, index, call, *arguments):
         with self.subTest(call=call.__name__, arguments=repr(arguments)[:300]):
             error = answer_leaving_arguments(self, call, *arguments)
@@ -291,8 +282,7 @@ class CheapestMend(Mends):
         self.assert_answer(None, cheapest_mend, PROGRAM, (("within", (KINDS, ())), ("over", PROGRAM)), OPTIONS)
 
     def test_within_and_over_together(self):
-        both = (KINDS, (FRONT, BACK))
-        both = (KINDS, tuple(sorted(both[1])))
+        both = (KINDS, tuple(sorted((FRONT, BACK))))
         self.assert_answer((0,), cheapest_mend, PROGRAM, (("within", both), ("over", both)), OPTIONS)
         self.assert_answer((0,), cheapest_mend, PROGRAM, (("over", both),), OPTIONS)
         self.assert_answer((), cheapest_mend, PROGRAM, (("within", both),), OPTIONS)
